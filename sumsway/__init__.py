@@ -1,0 +1,1 @@
+"""Sumsway: sums over the things of an order, turned about."""
