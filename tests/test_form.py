@@ -1,6 +1,7 @@
 """Holds the package to the form of ../shared/LANGUAGE.md, so far as a look at the code can tell it.
 
-Each fault is a pair of a rule and a line. Not looked at: L9, L11, L13, L19 and L28 but in part, L26.
+Each fault is a pair of a rule and a line. Not looked at: L9, L11, L13, L18, L19, L22, L26, L28. Looked at in
+part: L4, L5, L14, L15, L17, L23, L24, L27. These are still to be kept by whoever writes.
 """
 
 import ast
@@ -94,6 +95,8 @@ def faults_of_statement(node, depth):
         given = node.args
         if given.vararg or given.kwarg or given.kwonlyargs or given.posonlyargs or node.decorator_list:
             found.append("L4")
+        if node.returns or any(one.annotation for one in given.args):
+            found.append("L21")
         if node.end_lineno - node.lineno + 1 > 40:
             found.append("L10")
     return found
@@ -250,6 +253,7 @@ class TheLook(unittest.TestCase):
             ("L10", "def f(a):\n" + "    a = 1\n" * 41), ("L10", "x = '" + "a" * 120 + "'"),
             ("L12", "def f(a):\n    _ = a"), ("L14", "x = '\u00e9'"), ("L15", "def f(set):\n    return 1"),
             ("L15", "x = 1\nx = 2"), ("L17", "x = 'a type'"), ("L20", "def f(a, b):\n    return a is b"),
+            ("L21", "def f(a: int):\n    return a"),
             ("L23", "def f(a):\n    return g(range(a))"), ("L24", "def f(a):\n    return set(a)"),
             ("L25", "def f(a):\n    return a.bit_count()"), ("L27", "def f(a):\n    return 2 ** a"),
         )
