@@ -1,4 +1,4 @@
-"""What DOC.md says of orders, reckoned from its words pair by pair: slow, and without masks but at the ends."""
+"""What DOC.md says, reckoned from its words pair by pair: slow, and without masks but at the ends."""
 
 import itertools
 import random
@@ -80,3 +80,49 @@ def mixed_orders():
         orders.append(tuple(2 ** b for b in range(many)))
         orders.append(tuple(2 ** (b + 1) - 1 for b in range(many)))
     return orders
+
+
+def things_between(order):
+    """For each pair (a, b) with a at or beneath b all things between them."""
+    pairs = at_or_beneath(order)
+    things = range(len(order))
+    return {(a, b): [c for c in things if (a, c) in pairs and (c, b) in pairs] for a, b in pairs}
+
+
+def table_of(many, numbers):
+    """The table whose numbers other than 0 stand in a dict by pairs."""
+    return tuple(tuple(numbers.get((a, b), 0) for b in range(many)) for a in range(many))
+
+
+def unit_over(order):
+    return table_of(len(order), {(a, a): 1 for a in range(len(order))})
+
+
+def product_over(order, one, other):
+    numbers = {}
+    for (a, b), things in things_between(order).items():
+        numbers[a, b] = 0
+        for c in things:
+            numbers[a, b] += one[a][c] * other[c][b]
+    return table_of(len(order), numbers)
+
+
+def signs_over(order):
+    """The numbers for (a, b) from those for all (a, c) with fewer things between, by the sum that is 0."""
+    between = things_between(order)
+    numbers = {}
+    for a, b in sorted(between, key=lambda pair: len(between[pair])):
+        numbers[a, b] = 1 if a == b else -sum(numbers[a, c] for c in between[a, b] if c != b)
+    return table_of(len(order), numbers)
+
+
+def chains_from_to(order, a, b):
+    """All chains from a to b, ascending."""
+    less = {pair for pair in at_or_beneath(order) if pair[0] != pair[1]}
+    found = []
+    begun = [(a,)]
+    while begun:
+        found += [chain for chain in begun if chain[-1] == b]
+        begun = [chain + (c,) for chain in begun for c in range(len(order))
+                 if (chain[-1], c) in less and (c == b or (c, b) in less)]
+    return sorted(found)
