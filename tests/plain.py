@@ -126,3 +126,114 @@ def chains_from_to(order, a, b):
         begun = [chain + (c,) for chain in begun for c in range(len(order))
                  if (chain[-1], c) in less and (c == b or (c, b) in less)]
     return sorted(found)
+
+
+def put_together(one, other, is_beneath):
+    """The order of all pairs of a thing of the one and one of the other, ascending, beneath each other as told."""
+    things = list(itertools.product(range(len(one)), range(len(other))))
+    pairs = {(i, k) for i, low in enumerate(things) for k, high in enumerate(things) if is_beneath(low, high)}
+    return order_of(len(things), pairs)
+
+
+def laid_together(one, other, across):
+    """The other's things behind those of the one; `across` tells whether each of the one is beneath each of it."""
+    behind = len(one)
+    pairs = at_or_beneath(one) | {(behind + a, behind + b) for a, b in at_or_beneath(other)}
+    if across:
+        pairs |= {(a, behind + b) for a in range(len(one)) for b in range(len(other))}
+    return order_of(len(one) + len(other), pairs)
+
+
+def renumbers(one, other, row):
+    """Whether the row renumbers the one to the other."""
+    return sorted(row) == list(range(len(one))) and \
+        {(row[a], row[b]) for a, b in at_or_beneath(one)} == at_or_beneath(other)
+
+
+def least_row_of_all(one, other):
+    """The first of all rows, gone through in ascending order, that renumbers the one to the other, or None."""
+    if len(one) != len(other):
+        return None
+    for row in itertools.permutations(range(len(one))):
+        if renumbers(one, other, row):
+            return list(row)
+    return None
+
+
+def least_row(one, other):
+    """The same, but that what begins otherwise than any such row is left out."""
+    pairs, other_pairs = at_or_beneath(one), at_or_beneath(other)
+    things = range(len(one))
+
+    def around(pairs, thing):
+        return sum(a == thing for a, b in pairs), sum(b == thing for a, b in pairs)
+
+    kinds, other_kinds = ([around(of, thing) for thing in things] for of in (pairs, other_pairs))
+
+    def fits(row, k, image):
+        return kinds[k] == other_kinds[image] and all(
+            ((i, k) in pairs) == ((j, image) in other_pairs) and ((k, i) in pairs) == ((image, j) in other_pairs)
+            for i, j in enumerate(row))
+
+    def going_on(row):
+        if len(row) == len(one):
+            return row
+        for image in things:
+            if image not in row and fits(row, len(row), image):
+                found = going_on(row + [image])
+                if found is not None:
+                    return found
+        return None
+
+    return going_on([]) if len(one) == len(other) else None
+
+
+def turned_pairs(pairs):
+    return {(b, a) for a, b in pairs}
+
+
+def things_under(many, pairs, a, b):
+    return [x for x in range(many) if (x, a) in pairs and (x, b) in pairs]
+
+
+def meet_in(many, pairs, a, b):
+    """The meet of a and b, or None; with the pairs turned it is their join."""
+    under = things_under(many, pairs, a, b)
+    found = [x for x in under if all((y, x) in pairs for y in under)]
+    return found[0] if found else None
+
+
+def meet_bar_in(many, pairs, a, b):
+    """The bar of the meet, None where there is a meet; with the pairs turned that of the join."""
+    if meet_in(many, pairs, a, b) is not None:
+        return None
+    under = things_under(many, pairs, a, b)
+    if not under:
+        return ()
+    open_above = [x for x in under if not any((x, y) in pairs for y in under if y != x)]
+    return min((x, y) for x in open_above for y in open_above if x < y)
+
+
+def lattice_bar_over(order):
+    """The least of all triples of point 51, None where there is none and a thing is there."""
+    many, pairs = len(order), at_or_beneath(order)
+    if many == 0:
+        return ()
+    words = (("join", turned_pairs(pairs)), ("meet", pairs))
+    triples = [(a, b, word) for a in range(many) for b in range(a, many) for word, way in words
+               if meet_in(many, way, a, b) is None]
+    return min(triples, default=None)
+
+
+def rows_in(many, pairs):
+    """For each two things of a lattice their meet; with the pairs turned their join."""
+    return [[meet_in(many, pairs, a, b) for b in range(many)] for a in range(many)]
+
+
+def spread_bar_over(order):
+    """The least of all triples of point 52, None where there is none; of a lattice."""
+    many, pairs = len(order), at_or_beneath(order)
+    meets, joins = rows_in(many, pairs), rows_in(many, turned_pairs(pairs))
+    triples = [(a, b, c) for a, b, c in itertools.product(range(many), repeat=3)
+               if meets[a][joins[b][c]] != joins[meets[a][b]][meets[a][c]]]
+    return min(triples, default=None)

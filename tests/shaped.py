@@ -7,6 +7,16 @@ from tests.plain import at_or_beneath, led_to, mixed_orders, order_of
 FAR = 10 ** 60
 
 
+def loose(many):
+    """So many things, none beneath another."""
+    return tuple(2 ** b for b in range(many))
+
+
+def line(many):
+    """So many things, each beneath all greater ones."""
+    return tuple(2 ** (b + 1) - 1 for b in range(many))
+
+
 def loose_pairs(source, many):
     return []
 
@@ -51,6 +61,41 @@ def shaped_orders():
 
 
 ORDERS = tuple(mixed_orders() + shaped_orders())
+
+
+def order_of_sets(source, sets):
+    """Sets, some within others, as an order whose things are numbered in any way."""
+    line = source.sample(sets, len(sets))
+    things = range(len(line))
+    return order_of(len(line), {(a, b) for a in things for b in things if line[a] & line[b] == line[a]})
+
+
+def closed_sets(source, also_joined):
+    """A few sets, what any of them share, and, where told, what any of them have together."""
+    whole = 2 ** source.randint(0, 6) - 1
+    sets = {source.randint(0, whole) for turn in range(source.randint(0, 6))} | {whole}
+    while True:
+        more = sets | {one & other for one in sets for other in sets}
+        if also_joined:
+            more |= {one | other for one in sets for other in sets}
+        if more == sets:
+            return sorted(sets)
+        sets = more
+
+
+def lattices_by_chance():
+    """Lattices of each size from 1 to 16, each second one spread: sets with what they share are a lattice."""
+    source = random.Random(5051)
+    found = {(many, joined): [] for many in range(1, 17) for joined in (False, True)}
+    while any(len(orders) < 6 for orders in found.values()):
+        joined = source.random() < 0.5
+        sets = closed_sets(source, joined)
+        if len(sets) <= 16 and len(found[len(sets), joined]) < 6:
+            found[len(sets), joined].append(order_of_sets(source, sets))
+    return [order for orders in found.values() for order in orders]
+
+
+LATTICES = tuple(lattices_by_chance())
 
 
 def number_by_chance(source):
